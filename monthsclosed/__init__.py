@@ -1,0 +1,1 @@
+"""Accounts, rates and months: what work costs, and who pays for it."""

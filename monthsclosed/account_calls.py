@@ -1,0 +1,110 @@
+"""The calls on accounts: each gives back what it answers, as a list."""
+
+from monthsclosed.checks import is_amount, is_code, is_code_or_empty
+from monthsclosed.dates import month_of
+from monthsclosed.house import Account
+from monthsclosed.refusals import ALREADY_SO, BEYOND_BUDGET, NO_ROOM, NOT_THERE, OUT_OF_RANGE, TOO_DEEP
+from monthsclosed.refusals import UNDER_ITSELF, WRONG_FORM, WRONG_STATE
+from monthsclosed.rows import with_row
+from monthsclosed.spending import spent_in
+from monthsclosed.tree import DEEPEST, depth_of, height_of, path_of
+
+
+def is_place(house, parent):
+    """Whether an account can be put there: at the top, or under one that is there."""
+    return len(parent) == 0 or parent in house.accounts
+
+
+def answer_account(house, code, parent):
+    if not (is_code(code) and is_code_or_empty(parent)):
+        return [WRONG_FORM]
+    if code in house.accounts:
+        return [ALREADY_SO]
+    if not is_place(house, parent):
+        return [NOT_THERE]
+    if depth_of(house, parent) >= DEEPEST:
+        return [TOO_DEEP]
+    if len(house.accounts) >= house.account_cap:
+        return [NO_ROOM]
+    house.accounts[code] = Account(parent)
+    return [len(house.accounts)]
+
+
+def answer_move(house, code, parent):
+    if not (is_code(code) and is_code_or_empty(parent)):
+        return [WRONG_FORM]
+    if not (code in house.accounts and is_place(house, parent)):
+        return [NOT_THERE]
+    if code in path_of(house, parent):
+        return [UNDER_ITSELF]
+    if depth_of(house, parent) + height_of(house, code) > DEEPEST:
+        return [TOO_DEEP]
+    house.accounts[code].parent = parent
+    return [0]
+
+
+def refusal_of_code(house, code):
+    """The refusal of a code that is none or of which there is no account; else 0."""
+    if not is_code(code):
+        return WRONG_FORM
+    if code not in house.accounts:
+        return NOT_THERE
+    return 0
+
+
+def set_shut(house, code, is_shut):
+    refusal = refusal_of_code(house, code)
+    if refusal < 0:
+        return [refusal]
+    account = house.accounts[code]
+    if account.is_shut == is_shut:
+        return [ALREADY_SO]
+    account.is_shut = is_shut
+    return [0]
+
+
+def answer_shut(house, code):
+    return set_shut(house, code, True)
+
+
+def answer_reopen(house, code):
+    return set_shut(house, code, False)
+
+
+def answer_budget(house, amount, code):
+    if not is_amount(amount, -1):
+        return [OUT_OF_RANGE]
+    refusal = refusal_of_code(house, code)
+    if refusal < 0:
+        return [refusal]
+    house.accounts[code].budget = None if amount == -1 else amount
+    return [0]
+
+
+def amounts_left(house, path):
+    """What is left in today's month of each budget on the path."""
+    spent = spent_in(house, month_of(house.today))
+    left = []
+    for code in path:
+        budget = house.accounts[code].budget
+        if budget is not None:
+            left.append(budget - spent.get(code, 0))
+    return left
+
+
+def answer_admit(house, estimate, code):
+    if not is_amount(estimate, 0):
+        return [OUT_OF_RANGE]
+    refusal = refusal_of_code(house, code)
+    if refusal < 0:
+        return [refusal]
+    path = path_of(house, code)
+    if any([house.accounts[each].is_shut for each in path]):
+        return [WRONG_STATE]
+    left = amounts_left(house, path)
+    if len(left) == 0:
+        return [0]
+    least = min(left)
+    if least < estimate:
+        return [BEYOND_BUDGET]
+    return with_row(1, [least])

@@ -1,0 +1,12 @@
+"""The numbers of the refusals."""
+
+OUT_OF_RANGE = -1
+WRONG_FORM = -2
+NOT_THERE = -4
+ALREADY_SO = -5
+WRONG_STATE = -6
+UNDER_ITSELF = -7
+NO_ROOM = -8
+TOO_DEEP = -9
+BEYOND_BUDGET = -11
+WRONG_TIME = -12

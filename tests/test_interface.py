@@ -1,0 +1,136 @@
+"""How calls are handed in and how answers are told."""
+
+import os
+import unittest
+
+import monthsclosed
+from monthsclosed.accounts import answers
+from monthsclosed.house import House
+from tests.helper import (
+    GREATEST, LEAST, MOST, LineTest, account, admit, begin, budget, date, day, dayof, move, prime, rate,
+    rateof, reopen, shut, state, tier,
+)
+
+
+class WholeLists(unittest.TestCase):
+    def test_every_call_as_numbers(self):
+        self.assertEqual(answers([0, 400, 3, 4]), [1, 0])
+        self.assertEqual(answers([1, 7]), [1, 0])
+        self.assertEqual(answers([2, 60]), [6, 2, 4, 1900, 3, 1, 4])
+        self.assertEqual(answers([3, 1900, 3, 1]), [1, 60])
+        self.assertEqual(answers([4, 5, 0, 1440]), [1, 1])
+        self.assertEqual(answers([5, 1, 3, 36, 5, 77]), [1, 1])
+        self.assertEqual(answers([6, 1, 3, 36, 5]), [1, 0])
+        self.assertEqual(answers([7, 100, 50]), [1, 1])
+        self.assertEqual(answers([8, 2, 65, 66, 0]), [1, 1])
+        self.assertEqual(answers([9, 1, 65, 1, 66]), [1, -4])
+        self.assertEqual(answers([10, 1, 65]), [1, -4])
+        self.assertEqual(answers([11, 1, 65]), [1, -4])
+        self.assertEqual(answers([12, 5, 1, 65]), [1, -4])
+        self.assertEqual(answers([13, 5, 1, 65]), [1, -4])
+
+    def test_one_list_of_several_calls(self):
+        calls = [
+            0, 45000, 3, 5,
+            2, 45000,
+            5, 1, 1, 0, 45000, 2500,
+            6, 1, 1, 9, 45000,
+            8, 1, 65, 0,
+            8, 2, 65, 48, 1, 65,
+            12, 700, 1, 65,
+            13, 700, 2, 65, 48,
+            13, 701, 2, 65, 48,
+            10, 1, 65,
+            13, 0, 2, 65, 48,
+            1, 44999,
+        ]
+        self.assertEqual(answers(calls), [
+            1, 0,
+            6, 1478, 4, 2023, 3, 16, 4,
+            1, 1,
+            1, 2500,
+            1, 1,
+            1, 2,
+            1, 0,
+            3, 1, 1, 700,
+            1, -11,
+            1, 0,
+            1, -6,
+            1, -1,
+        ])
+
+    def test_refusals_are_one_number_each(self):
+        calls = [2, 0, 8, 0, 0, 12, -2, 0, 13, LEAST, 0, 3, 1900, 2, 29]
+        self.assertEqual(answers(calls), [1, -1, 1, -2, 1, -1, 1, -1, 1, -1])
+
+    def test_rows_of_sixty_bytes_are_read_to_their_end(self):
+        calls = [8, 60] + [65] * 60 + [60] + [66] * 60 + [10, 60] + [67] * 60 + [2, 1]
+        self.assertEqual(answers(calls), [1, -2, 1, -2, 6, 0, 4, 1900, 1, 1, 1])
+
+    def test_bytes_of_a_code_that_look_like_calls(self):
+        calls = [8, 8, 0, 1, 2, 3, 4, 5, 6, 7, 0, 8, 1, 65, 0]
+        self.assertEqual(answers(calls), [1, -2, 1, 1])
+
+    def test_four_hundred_calls(self):
+        calls = []
+        for number in range(400):
+            calls += day(number + 1)
+        self.assertEqual(answers(calls), [1, 0] * 400)
+
+    def test_least_and_greatest_numbers(self):
+        for number in (LEAST, GREATEST):
+            for call in (
+                begin(number), begin(1, number), begin(1, 1, number), day(number), date(number),
+                dayof(number, 1, 1), dayof(1900, number, 1), dayof(1900, 1, number),
+                prime(number, 0, 0), prime(1, number, 1440), prime(1, 0, number),
+                rate(number, 1, 1, 1, 1), rate(1, number, 1, 1, 1), rate(1, 1, number, 1, 1),
+                rate(1, 1, 1, number, 1), rate(1, 1, 1, 1, number),
+                rateof(number, 1, 1, 1), rateof(1, number, 1, 1), rateof(1, 1, number, 1), rateof(1, 1, 1, number),
+                tier(number, 1), tier(1, number), budget(number, "A"), admit(number, "A"),
+            ):
+                with self.subTest(call=call):
+                    self.assertEqual(answers(call), [1, -1])
+
+
+class NothingKept(LineTest):
+    LINE = [
+        account("A"), account("B", "A"), shut("A"), budget(5, "B"), prime(1, 0, 10), rate(2, 0, 0, 1, 9), tier(1, 1),
+        day(50), move("B"), admit(5, "B"), reopen("A"),
+    ]
+
+    def test_a_line_begins_anew(self):
+        first = self.run_line(self.LINE)
+        self.assertEqual(first, [[1], [2], [0], [0], [1], [1], [1], [0], [0], [1, 1, 5], [0]])
+        self.assert_line([(account("A"), 1), (day(1), 0), (rateof(2, 0, 0, 1), 0), (admit(MOST, "A"), 0)])
+        self.assertEqual(self.run_line(self.LINE), first)
+
+    def test_what_is_given_back_is_nobody_elses(self):
+        line = date(1)
+        given = answers(line)
+        given.append(7)
+        self.assertEqual(answers(line), [6, 0, 4, 1900, 1, 1, 1])
+        self.assertEqual(line, date(1))
+
+    def test_new_is_as_behind_begin(self):
+        self.assertEqual(state(House()), state(self.house_after([begin(1, 200, 500)])))
+        fresh = House()
+        self.assertEqual(
+            (fresh.today, fresh.account_cap, fresh.entry_cap, fresh.closed_months, fresh.last_day_charged),
+            (1, 200, 500, 0, 0),
+        )
+
+    def test_two_objects_share_nothing(self):
+        one = self.house_after(self.LINE)
+        other = House()
+        self.assertEqual(state(other), state(self.house_after([begin()])))
+        self.assertNotEqual(state(one), state(other))
+
+
+class Package(unittest.TestCase):
+    def test_it_lies_at_the_top(self):
+        top = os.path.dirname(os.path.dirname(os.path.abspath(__file__)))
+        self.assertEqual(os.path.dirname(os.path.abspath(monthsclosed.__file__)), os.path.join(top, "monthsclosed"))
+
+
+if __name__ == "__main__":
+    unittest.main()

@@ -39,7 +39,8 @@ def answer_move(house, code, parent):
         return [UNDER_ITSELF]
     if depth_of(house, parent) + height_of(house, code) > DEEPEST:
         return [TOO_DEEP]
-    house.accounts[code].parent = parent
+    account = house.accounts[code]
+    account.parent = parent
     return [0]
 
 
@@ -77,7 +78,8 @@ def answer_budget(house, amount, code):
     refusal = refusal_of_code(house, code)
     if refusal < 0:
         return [refusal]
-    house.accounts[code].budget = None if amount == -1 else amount
+    account = house.accounts[code]
+    account.budget = None if amount == -1 else amount
     return [0]
 
 

@@ -78,6 +78,8 @@ class Language(unittest.TestCase):
             if isinstance(node, ast.Assign):
                 self.assertEqual(len(node.targets), 1, where)
                 self.assertNotIsInstance(node.targets[0], ast.Tuple, where)
+                if isinstance(node.targets[0], ast.Attribute):
+                    self.assertIsInstance(node.targets[0].value, ast.Name, where)
             if isinstance(node, (ast.For, ast.While)):
                 self.assertEqual(node.orelse, [], where)
             if isinstance(node, ast.Constant):

@@ -1,13 +1,13 @@
 """The calls on accounts: each gives back what it answers, as a list."""
 
-from monthsclosed.checks import is_amount, is_code, is_code_or_empty
+from monthsclosed.checks import is_amount, is_code, is_code_or_empty, refusal_of_code
 from monthsclosed.dates import month_of
 from monthsclosed.house import Account
 from monthsclosed.refusals import ALREADY_SO, BEYOND_BUDGET, NO_ROOM, NOT_THERE, OUT_OF_RANGE, TOO_DEEP
 from monthsclosed.refusals import UNDER_ITSELF, WRONG_FORM, WRONG_STATE
-from monthsclosed.rows import with_row
+from monthsclosed.rows import with_row, with_rows
 from monthsclosed.spending import spent_in
-from monthsclosed.tree import DEEPEST, depth_of, height_of, path_of
+from monthsclosed.tree import DEEPEST, children_by_parent, depth_of, height_of, path_of
 
 
 def is_place(house, parent):
@@ -42,15 +42,6 @@ def answer_move(house, code, parent):
     account = house.accounts[code]
     account.parent = parent
     return [0]
-
-
-def refusal_of_code(house, code):
-    """The refusal of a code that is none or of which there is no account; else 0."""
-    if not is_code(code):
-        return WRONG_FORM
-    if code not in house.accounts:
-        return NOT_THERE
-    return 0
 
 
 def set_shut(house, code, is_shut):
@@ -110,3 +101,20 @@ def answer_admit(house, estimate, code):
     if least < estimate:
         return [BEYOND_BUDGET]
     return with_row(1, [least])
+
+
+def answer_children(house, code):
+    if not is_code_or_empty(code):
+        return [WRONG_FORM]
+    if not is_place(house, code):
+        return [NOT_THERE]
+    children = children_by_parent(house).get(code, [])
+    return with_rows(len(children), children)
+
+
+def answer_path(house, code):
+    refusal = refusal_of_code(house, code)
+    if refusal < 0:
+        return [refusal]
+    path = path_of(house, code)
+    return with_rows(len(path), path)

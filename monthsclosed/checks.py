@@ -1,6 +1,7 @@
-"""Whether what a call is handed is within the ranges and of the forms that are told."""
+"""Whether what a call is handed is within the ranges and of the forms that are told, and is there."""
 
-from monthsclosed.dates import LAST_DAY
+from monthsclosed.dates import LAST_DAY, LAST_MONTH
+from monthsclosed.refusals import NOT_THERE, WRONG_FORM
 
 GREATEST_AMOUNT = 1000000000000000
 LONGEST_CODE = 8
@@ -12,6 +13,10 @@ def is_within(value, least, greatest):
 
 def is_day(value):
     return is_within(value, 1, LAST_DAY)
+
+
+def is_month(value):
+    return is_within(value, 0, LAST_MONTH)
 
 
 def is_amount(value, least):
@@ -32,3 +37,12 @@ def is_code(text):
 
 def is_code_or_empty(text):
     return len(text) == 0 or is_code(text)
+
+
+def refusal_of_code(house, code):
+    """The refusal of a code that is none or of which there is no account; else 0."""
+    if not is_code(code):
+        return WRONG_FORM
+    if code not in house.accounts:
+        return NOT_THERE
+    return 0

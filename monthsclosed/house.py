@@ -17,7 +17,7 @@ class Account:
 
 
 class Entry:
-    """The details are a charge's work, the number of a credit's charge, or nothing."""
+    """The details are a tuple: a charge's work, the number of a credit's charge, or nothing."""
 
     def __init__(self, kind, code, month, amount, details):
         self.kind = kind
@@ -47,5 +47,5 @@ class House:
         self.accounts = {}
         # Entry number n is at index n - 1.
         self.entries = []
-        # By month and code: own, discount, share, total.
+        # By month, then by code: own, discount, share, total.
         self.invoices = {}

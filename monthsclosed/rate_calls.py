@@ -1,8 +1,10 @@
-"""The calls on prime hours, rates and tiers: each gives back what it answers, as a list."""
+"""The calls on prime hours, rates, tiers and prices: each gives back what it answers, as a list."""
 
 from monthsclosed.checks import is_amount, is_day, is_within
 from monthsclosed.rates import rate_in_force
 from monthsclosed.refusals import NO_ROOM, OUT_OF_RANGE, WRONG_TIME
+from monthsclosed.rows import with_row
+from monthsclosed.work import exact_cost_of, is_grade_and_time, price_of, refusal_of_units
 
 MOST_PRIME_HOURS = 20
 MOST_RATES = 100
@@ -64,3 +66,12 @@ def answer_tier(house, limit, thousandths):
         return [NO_ROOM]
     house.tiers[limit] = thousandths
     return [len(house.tiers)]
+
+
+def answer_price(house, work):
+    if not is_grade_and_time(work):
+        return [OUT_OF_RANGE]
+    refusal = refusal_of_units(work.units)
+    if refusal < 0:
+        return [refusal]
+    return with_row(0, [price_of(house, work), exact_cost_of(house, work)])

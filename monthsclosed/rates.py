@@ -1,4 +1,12 @@
-"""Which rate is in force."""
+"""Which prime hours and which rate are in force."""
+
+USUAL_PRIME_HOURS = (480, 1080)
+
+
+def prime_hours_of(house, day):
+    """From and to, as a tuple."""
+    latest = max([since for since in house.prime_hours if since <= day], default=0)
+    return house.prime_hours.get(latest, USUAL_PRIME_HOURS)
 
 
 def latest_rate_day(house, kind, shift, grade, day):

@@ -28,5 +28,13 @@ class Reader:
         return rows
 
 
+def with_rows(first, rows):
+    answer = [first]
+    for row in rows:
+        answer.append(len(row))
+        answer.extend(row)
+    return answer
+
+
 def with_row(first, row):
-    return [first, len(row)] + row
+    return with_rows(first, [row])

@@ -1,7 +1,8 @@
 """The calls on time: each gives back what it answers, as a list."""
 
 from monthsclosed.checks import is_day, is_within
-from monthsclosed.dates import FIRST_YEAR, LAST_DAY, LAST_YEAR, date_of, day_of, days_in_month, month_number, weekday_of
+from monthsclosed.dates import FIRST_YEAR, LAST_DAY, LAST_YEAR, date_of, day_of, days_in_month, month_number, month_of
+from monthsclosed.dates import weekday_of
 from monthsclosed.refusals import OUT_OF_RANGE
 from monthsclosed.rows import with_row
 
@@ -33,3 +34,8 @@ def answer_dayof(year, month, day_of_month):
     if not is_within(day_of_month, 1, days_in_month(year, month)):
         return [OUT_OF_RANGE]
     return [day_of(year, month, day_of_month)]
+
+
+def answer_when(house):
+    row = [month_of(house.today), house.closed_months, house.last_day_charged, len(house.entries)]
+    return with_row(house.today, row)

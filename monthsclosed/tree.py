@@ -24,3 +24,29 @@ def height_of(house, code):
         if code in path:
             height = max(height, path.index(code) + 1)
     return height
+
+
+def children_by_parent(house):
+    """By code (at the top: the empty one), the codes right under it, in their order; those without are left out."""
+    children = {}
+    for code in sorted(house.accounts):
+        parent = house.accounts[code].parent
+        children[parent] = children.get(parent, []) + [code]
+    return children
+
+
+def from_top_down(house):
+    """All codes, each behind the one it stands under."""
+    depths = {}
+    for code in house.accounts:
+        depths[code] = depth_of(house, code)
+    return sorted(house.accounts, key=lambda each: depths[each])
+
+
+def with_all_below(house, amounts):
+    """By code, its amount and those of all below it, added up; a code left out has 0."""
+    sums = {}
+    for code, amount in amounts.items():
+        for upper in path_of(house, code):
+            sums[upper] = sums.get(upper, 0) + amount
+    return sums

@@ -11,6 +11,13 @@ LEAST = -(2**63)
 GREATEST = 2**63 - 1
 LAST_DAY = 365243
 MOST = 10**15
+GREATEST_RATE = 10**12
+MOST_UNITS = 10**9
+NO_UNITS = (0, 0, 0, 0)
+NO_CODES = (
+    "", "ABCDEFGHI", "A" * 60, "a", "z", " ", "A B", "AB\n", "A-1", "\x00", "\xff",
+    "/", ":", "@", "[", "/A", "A:", "0@", "[9", "\xc1",
+)
 
 
 def row(text):
@@ -75,6 +82,76 @@ def admit(estimate, code):
     return [13, estimate] + row(code)
 
 
+def price(grade, day_number, minute, minutes, units=NO_UNITS):
+    return [14, grade, day_number, minute, minutes] + row(units)
+
+
+def charge(grade, day_number, minute, minutes, code, units=NO_UNITS):
+    return [15, grade, day_number, minute, minutes] + row(code) + row(units)
+
+
+def credit(number, amount):
+    return [16, number, amount]
+
+
+def overhead(amount, code):
+    return [17, amount] + row(code)
+
+
+def month():
+    return [18]
+
+
+def spent(month_number, code):
+    return [19, month_number] + row(code)
+
+
+def invoice(month_number, code):
+    return [20, month_number] + row(code)
+
+
+def total(month_number):
+    return [21, month_number]
+
+
+def entry(number):
+    return [22, number]
+
+
+def statement(month_number, start, most, code):
+    return [23, month_number, start, most] + row(code)
+
+
+def children(code=""):
+    return [24] + row(code)
+
+
+def path(code):
+    return [25] + row(code)
+
+
+def split(amount, weights):
+    return [26, amount] + row(weights)
+
+
+def when():
+    return [27]
+
+
+# With this rate ahead, a charge of one unit of kind 2 costs 1.
+UNIT_RATE = rate(2, 0, 0, 1, 1000)
+
+
+def cost(amount, code, day_number=1):
+    """A charge of just that amount, where UNIT_RATE is the one rate of kind 2."""
+    return charge(1, day_number, 0, 0, code, (amount, 0, 0, 0))
+
+
+def rows(*texts):
+    """Several rows as they are answered, one behind another."""
+    return [number for text in texts for number in row(text)]
+
+
 def chain(codes, parent=""):
     """Calls for accounts each of which stands under the one before it."""
     calls = []
@@ -82,6 +159,11 @@ def chain(codes, parent=""):
         calls.append(account(code, parent))
         parent = code
     return calls
+
+
+def as_lists(steps):
+    """What is answered of each step, a pair of a call and its answer; a number by itself stands for a list of it."""
+    return [[answer] if isinstance(answer, int) else answer for call, answer in steps]
 
 
 def state(value):
@@ -123,8 +205,7 @@ class LineTest(unittest.TestCase):
 
     def assert_line(self, steps):
         """steps: pairs of a call and what is answered of it (a number, or a list)."""
-        wanted = [[answer] if isinstance(answer, int) else answer for call, answer in steps]
-        self.assertEqual(self.run_line([call for call, answer in steps]), wanted)
+        self.assertEqual(self.run_line([call for call, answer in steps]), as_lists(steps))
 
     def house_after(self, calls):
         """An object on which these calls were answered without a refusal."""

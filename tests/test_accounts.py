@@ -3,14 +3,10 @@
 import unittest
 
 from tests.helper import (
-    GREATEST, LEAST, MOST, LineTest, account, admit, begin, budget, chain, move, reopen, shut, state,
+    GREATEST, LEAST, MOST, NO_CODES, LineTest, account, admit, begin, budget, chain, move, reopen, shut, state,
 )
 
 EIGHT = "ABCDEFGH"
-NO_CODES = (
-    "", "ABCDEFGHI", "A" * 60, "a", "z", " ", "A B", "AB\n", "A-1", "\x00", "\xff",
-    "/", ":", "@", "[", "/A", "A:", "0@", "[9", "\xc1",
-)
 
 
 class Codes(LineTest):

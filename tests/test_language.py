@@ -32,6 +32,15 @@ WORDS = re.compile(
 )
 
 
+WALKED = ("zip", "enumerate", "reversed", "range", "items", "keys", "values")
+WALKERS = ("list", "tuple", "dict", "sorted", "sum", "any", "all", "enumerate", "zip", "min", "max")
+KEYWORDS = {
+    "sorted": ("key", "reverse"), "min": ("key", "default"), "max": ("key", "default"), "sum": ("start",),
+    "enumerate": ("start",), "zip": ("strict",),
+}
+VALUES_LIKE_PYTHONS = set("count index title find get join lower upper split strip copy add".split())
+
+
 def sources():
     found = {}
     for name in sorted(os.listdir(FOLDER)):
@@ -46,6 +55,17 @@ def own_methods():
         each.name for text in sources().values() for node in ast.walk(ast.parse(text))
         if isinstance(node, ast.ClassDef) for each in node.body if isinstance(each, ast.FunctionDef)
     }
+
+
+def own_values():
+    return {
+        node.attr for text in sources().values() for node in ast.walk(ast.parse(text))
+        if isinstance(node, ast.Attribute) and isinstance(node.ctx, ast.Store)
+    }
+
+
+def called_name(node):
+    return getattr(node.func, "id", None) or getattr(node.func, "attr", None)
 
 
 def each_tree():
@@ -113,6 +133,48 @@ class Language(unittest.TestCase):
         for node, where in each_node():
             if isinstance(node, ast.Call) and isinstance(node.func, ast.Attribute):
                 self.assertIn(node.func.attr, allowed, where)
+
+    def test_methods_and_values_of_own_classes(self):
+        pythons = {name for kind in (str, int, list, dict, set, bytes, tuple) for name in dir(kind)}
+        self.assertEqual(own_methods() & own_values(), set())
+        self.assertEqual((own_methods() - METHODS - {"__init__", "add", "discard"}) & pythons, set())
+        self.assertEqual((own_values() - VALUES_LIKE_PYTHONS) & pythons, set())
+
+    def test_keywords(self):
+        for node, where in each_node():
+            if isinstance(node, ast.Call):
+                for keyword in node.keywords:
+                    self.assertIn(keyword.arg, KEYWORDS.get(called_name(node), ()), where)
+
+    def test_walked_at_once(self):
+        walked = set()
+        for node, where in each_node():
+            if isinstance(node, (ast.For, ast.comprehension)):
+                walked.add(ast.dump(node.iter, include_attributes=True))
+            if isinstance(node, ast.Call) and called_name(node) in WALKERS:
+                walked.update(ast.dump(each, include_attributes=True) for each in node.args)
+        for node, where in each_node():
+            if isinstance(node, ast.Call) and called_name(node) in WALKED:
+                self.assertIn(ast.dump(node, include_attributes=True), walked, where)
+
+    def test_tables_of_the_top_hold_no_tables(self):
+        for name, tree in each_tree():
+            for node in tree.body:
+                inner = list(ast.walk(node.value))[1:] if isinstance(node, ast.Assign) else []
+                self.assertFalse(any(isinstance(each, (ast.List, ast.Dict)) for each in inner), name)
+
+    def test_names_are_drawn_from_where_they_are_defined(self):
+        bound = {}
+        for name, tree in each_tree():
+            names = {target.id for node in tree.body if isinstance(node, ast.Assign) for target in node.targets}
+            names |= {node.name for node in tree.body if isinstance(node, (ast.FunctionDef, ast.ClassDef))}
+            bound["monthsclosed." + name[:-3]] = names
+        for node, where in each_node():
+            if isinstance(node, ast.ImportFrom):
+                self.assertEqual(node.level, 0, where)
+                for each in node.names:
+                    self.assertIn(each.name, bound[node.module], where)
+                    self.assertIsNone(each.asname, where)
 
     def test_imports(self):
         drawn = {}

@@ -4,10 +4,8 @@ import random
 import unittest
 
 from tests.helper import (
-    GREATEST, LAST_DAY, LEAST, MOST, LineTest, begin, prime, rate, rateof, state, tier,
+    GREATEST, GREATEST_RATE, LAST_DAY, LEAST, MOST, LineTest, begin, prime, rate, rateof, state, tier,
 )
-
-GREATEST_RATE = 10**12
 
 
 class Prime(LineTest):

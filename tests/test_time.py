@@ -50,7 +50,7 @@ class Begin(LineTest):
     def test_nothing_is_left_of_entries_and_invoices(self):
         house = self.house_after([account("A"), tier(5, 5)])
         house.entries.append(Entry(CHARGE, (65,), 0, 5, ()))
-        house.invoices[(0, (65,))] = (5, 0, 0, 5)
+        house.invoices[0] = {(65,): (5, 0, 0, 5)}
         house.last_day_charged = 40
         self.assert_answer(house, begin(3, 4, 5), [0])
         self.assertEqual(state(house), state(self.house_after([begin(3, 4, 5)])))

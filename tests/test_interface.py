@@ -186,6 +186,16 @@ class WholeLists(unittest.TestCase):
                     self.assertEqual(answers(call), [1, -1])
 
 
+class Untouchable(list):
+    """A list that can't be changed, not for a while either."""
+
+    def refuse(self, *arguments):
+        raise AssertionError("the list handed in is changed")
+
+    append = extend = insert = pop = remove = reverse = sort = clear = refuse
+    __setitem__ = __delitem__ = __iadd__ = __imul__ = refuse
+
+
 class NothingKept(LineTest):
     LINE = [
         account("A"), account("B", "A"), shut("A"), budget(5, "B"), prime(1, 0, 10), rate(2, 0, 0, 1, 9), tier(1, 1),
@@ -205,6 +215,10 @@ class NothingKept(LineTest):
             (rate(2, 0, 0, 1, 1), 1), (invoice(0, "A"), -6),
         ])
         self.assertEqual(self.run_line(self.LINE), first)
+
+    def test_what_is_handed_in_is_not_changed(self):
+        line = [number for call in self.LINE for number in call] + split(9, [1, 2, 3]) + price(1, 1, 0, 9, [5] * 4)
+        self.assertEqual(answers(Untouchable(line)), answers(line))
 
     def test_what_is_given_back_is_nobody_elses(self):
         line = date(1)
